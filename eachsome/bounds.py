@@ -1,0 +1,11 @@
+"""The bounds that the program keeps to."""
+
+MAX_LETTERS = 60
+MAX_CLAUSES = 200
+MAX_SEARCH = 12
+MAX_STEPS = 600000
+MAX_NODES = 400
+MAX_NEST = 40
+MAX_BITS = 4
+MAX_ROUNDS = 4
+MAX_EDITS = 40
