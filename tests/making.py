@@ -72,3 +72,34 @@ def edits_of(text, signs):
             made.append(text[:at] + sign + text[at:])
             made.append(text[:at] + sign + text[at + 1:])
     return made
+
+
+def spread(dice, sentence, paper, letters):
+    """A sentence of more letters, and the paper carried there: letters keep their order, new ones stand between."""
+    chosen = sorted(dice.sample(range(1, letters + 1), len(sentence[0])))
+    names = {0: 0}
+    for old, new in enumerate(chosen):
+        names[old + 1], names[-old - 1] = new, -new
+    owners = list(random_owners(dice, letters))
+    for old, new in enumerate(chosen):
+        owners[new - 1] = sentence[0][old]
+    clauses = tuple([tuple([names[x] for x in clause]) for clause in sentence[1]])
+    side, steps = paper
+    carried = tuple([("lot", tuple([names[x] for x in step[1]])) if step[0] == "lot" else step for step in steps])
+    return ("".join(owners), clauses), (side, carried)
+
+
+def more_clauses(dice, sentence, many):
+    """The sentence with at most so many further clauses behind its own."""
+    found = {clause: True for clause in sentence[1]}
+    for _ in range(many):
+        found[random_clause(dice, len(sentence[0]), len(sentence[0]))] = True
+    return (sentence[0], tuple(found))
+
+
+def behind_others(ahead, paper):
+    """The paper with all these steps put ahead of its own."""
+    side, steps = paper
+    moved = [(step[0], *[number + len(ahead) for number in step[1:]]) if step[0] in ("drop", "meet") else step
+             for step in steps]
+    return (side, tuple(ahead) + tuple(moved))

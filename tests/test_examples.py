@@ -5,7 +5,7 @@ import unittest
 
 from eachsome import errors
 
-PARTS = (("a", 22),)
+PARTS = (("a", 22), ("b", 10), ("c", 25))
 FOLDER = os.path.dirname(os.path.abspath(__file__))
 
 

@@ -14,6 +14,11 @@ INTERFACE = {
     "sentences": ("sentence_error", "clause_of", "owner_of", "less"),
     "sentencetexts": ("sentence_text", "read_sentence"),
     "rowtexts": ("sentence_rows", "read_rows"),
+    "plays": ("play_error", "state_of", "result"),
+    "meaning": ("winner", "good_moves", "trees"),
+    "rows": ("dropped", "clashes", "met"),
+    "papers": ("paper_error", "rows_of", "trimmed", "clauses_used"),
+    "papertexts": ("paper_text", "read_paper"),
 }
 
 CALLED = set(
