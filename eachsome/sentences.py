@@ -72,6 +72,11 @@ def owner_of(sentence, letter):
     return sentence[0][letter - 1]
 
 
+def letters_of(sentence, owner):
+    """Return the list of the letters of this owner, "e" or "s", ascending."""
+    return [place + 1 for place, sign in enumerate(sentence[0]) if sign == owner]
+
+
 def less(sentence, places):
     """Return the sentence without the clauses at these places."""
     owners, clauses = sentence

@@ -1,6 +1,9 @@
 """A paper for any small sentence, found as [E3] tells it, so that tests have papers of all kinds."""
 
-from tests.plain import ordered, plain_dropped, plain_met
+import random
+
+from tests.making import behind_others, more_clauses, random_sentence, spread
+from tests.plain import ordered, plain_dropped, plain_made, plain_met
 
 
 class Finder:
@@ -59,3 +62,98 @@ def found_paper(sentence):
     finder = Finder(sentence)
     side, _ = finder.go(())
     return (side, tuple(finder.steps[side]))
+
+
+def small_papers(seed, many):
+    """Sentences with papers of them, about as many of one side as of the other."""
+    dice = random.Random(seed)
+    left = {"no": many // 2, "yes": many // 2}
+    while left["no"] or left["yes"]:
+        letters = dice.randint(1, 6)
+        sentence = random_sentence(dice, letters, dice.randint(1, 9), 3)
+        paper = found_paper(sentence)
+        if left[paper[0]]:
+            left[paper[0]] -= 1
+            yield dice, sentence, paper
+
+
+def random_step(dice, first, rows):
+    """A step that may be right or not, first being some that are."""
+    word = dice.choice(("first", "drop", "meet", "meet", "meet"))
+    if word == "first" or not rows:
+        return dice.choice(first)
+    return (word, *[dice.randrange(len(rows)) for _ in range(1 if word == "drop" else 2)])
+
+
+def random_steps(dice, sentence, paper, many):
+    """Right steps that make any rows, of the side of the paper, and these rows."""
+    side = paper[0]
+    first = [step for step in paper[1] if step[0] in ("clause", "lot")]
+    if side == "no":
+        first.extend([("clause", place) for place in range(len(sentence[1]))])
+    steps, rows = [], []
+    while len(steps) < many:
+        step = random_step(dice, first, rows)
+        row = plain_made(sentence, side, step, rows)
+        if type(row) is tuple:
+            steps.append(step)
+            rows.append(row)
+    return steps, rows
+
+
+def long_papers(seed, many, steps):
+    """Papers of some thousand steps, of sentences of up to sixty letters."""
+    for dice, small, paper in small_papers(seed, many):
+        sentence, carried = spread(dice, small, paper, dice.choice((7, 20, 59, 60)))
+        if paper[0] == "no":
+            sentence = more_clauses(dice, sentence, dice.choice((0, 10, 190 - len(sentence[1]))))
+        ahead, _ = random_steps(dice, sentence, carried, steps)
+        yield dice, sentence, behind_others(ahead, carried)
+
+
+def rich_sentence(dice, letters, many, most=3):
+    """A sentence of so many letters, of at most this many clauses, none of them ()."""
+    owners, clauses = random_sentence(dice, letters, many, most)
+    return (owners, tuple([clause for clause in clauses if clause]))
+
+
+def rich_papers(seed, many, letters=6):
+    """Sentences without the clause (), with papers that have a meet, as many of one side as of the other."""
+    dice = random.Random(seed)
+    left = {"no": many // 2, "yes": many // 2}
+    while left["no"] or left["yes"]:
+        sentence = rich_sentence(dice, dice.randint(2, letters), dice.randint(2, 12))
+        paper = found_paper(sentence)
+        if left[paper[0]] and any(step[0] == "meet" for step in paper[1]):
+            left[paper[0]] -= 1
+            yield dice, sentence, paper
+
+
+def wide_papers(seed, many, steps):
+    """Papers of some thousand steps, many of which speak of letters, of sentences of up to sixty letters."""
+    for dice, small, paper in rich_papers(seed, many):
+        sentence, carried = spread(dice, small, paper, dice.choice((6, 12, 40, 60)))
+        if paper[0] == "no":
+            sentence = more_clauses(dice, sentence, 30)
+        else:
+            carried = wider_lots(dice, sentence, carried)
+        ahead, _ = random_steps(dice, sentence, carried, steps)
+        yield dice, sentence, behind_others(ahead, carried)
+
+
+def wider_lots(dice, sentence, paper):
+    """The yes-paper with further lots ahead, which have many literals, all of one play."""
+    lots = []
+    for step in paper[1]:
+        if step[0] == "lot":
+            names = {abs(literal): literal for literal in step[1]}
+            for letter in range(1, len(sentence[0]) + 1):
+                if dice.random() < 0.3:
+                    names.setdefault(letter, dice.choice((-1, 1)) * letter)
+            lots.append(("lot", ordered(names.values())))
+    return behind_others(lots, paper)
+
+
+def rows_without_end(sentence, paper):
+    """The paper told twice over, so that a row () comes ahead of the end, and steps stand there twice."""
+    return behind_others(paper[1], paper)

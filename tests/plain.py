@@ -1,5 +1,7 @@
 """The document's points once more, told as plainly as can be, for tests to compare with."""
 
+from functools import lru_cache
+
 
 def whole_number(value):
     return type(value) is int
@@ -64,6 +66,7 @@ def summed_trees(sentence, play=()):
     return with_yes + with_no if sentence[0][len(play)] == "s" else with_yes * with_no
 
 
+@lru_cache(maxsize=None)
 def holder_letters(owners, side):
     return {k + 1 for k in range(len(owners)) if owners[k] == {"no": "e", "yes": "s"}[side]}
 

@@ -5,63 +5,16 @@ from eachsome.errors import Unfit
 from eachsome.meaning import winner
 from eachsome.papers import clauses_used, paper_error, rows_of, trimmed
 from eachsome.sentences import less, sentence_error
-from tests.finding import found_paper
+from tests.finding import long_papers, small_papers
 from tests.helpers import any_values, check_call, raised, returned
-from tests.making import behind_others, filled_sentence, more_clauses, random_clause, random_sentence, spread
-from tests.plain import plain_judged, plain_made, plain_trimmed
+from tests.making import filled_sentence, more_clauses, random_clause
+from tests.plain import plain_judged, plain_trimmed
 
 GUESS = ("se", ((1, 2), (-1, -2)))
 COPY = ("es", ((1, 2), (-1, -2)))
 NO = ("no", (("clause", 0), ("drop", 0), ("clause", 1), ("drop", 2), ("meet", 1, 3)))
 YES = ("yes", (("lot", (1, -2)), ("drop", 0), ("lot", (-1, 2)), ("drop", 2), ("meet", 1, 3)))
 MAX_STEPS = 600000
-
-
-def small_papers(seed, many):
-    """Sentences with papers of them, about as many of one side as of the other."""
-    dice = random.Random(seed)
-    left = {"no": many // 2, "yes": many // 2}
-    while left["no"] or left["yes"]:
-        letters = dice.randint(1, 6)
-        sentence = random_sentence(dice, letters, dice.randint(1, 9), 3)
-        paper = found_paper(sentence)
-        if left[paper[0]]:
-            left[paper[0]] -= 1
-            yield dice, sentence, paper
-
-
-def random_step(dice, first, rows):
-    """A step that may be right or not, first being some that are."""
-    word = dice.choice(("first", "drop", "meet", "meet", "meet"))
-    if word == "first" or not rows:
-        return dice.choice(first)
-    return (word, *[dice.randrange(len(rows)) for _ in range(1 if word == "drop" else 2)])
-
-
-def random_steps(dice, sentence, paper, many):
-    """Right steps that make any rows, of the side of the paper, and these rows."""
-    side = paper[0]
-    first = [step for step in paper[1] if step[0] in ("clause", "lot")]
-    if side == "no":
-        first.extend([("clause", place) for place in range(len(sentence[1]))])
-    steps, rows = [], []
-    while len(steps) < many:
-        step = random_step(dice, first, rows)
-        row = plain_made(sentence, side, step, rows)
-        if type(row) is tuple:
-            steps.append(step)
-            rows.append(row)
-    return steps, rows
-
-
-def long_papers(seed, many, steps):
-    """Papers of some thousand steps, of sentences of up to sixty letters."""
-    for dice, small, paper in small_papers(seed, many):
-        sentence, carried = spread(dice, small, paper, dice.choice((7, 20, 59, 60)))
-        if paper[0] == "no":
-            sentence = more_clauses(dice, sentence, dice.choice((0, 10, 190 - len(sentence[1]))))
-        ahead, _ = random_steps(dice, sentence, carried, steps)
-        yield dice, sentence, behind_others(ahead, carried)
 
 
 class RightPapersTest(unittest.TestCase):
