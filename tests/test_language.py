@@ -19,6 +19,16 @@ INTERFACE = {
     "rows": ("dropped", "clashes", "met"),
     "papers": ("paper_error", "rows_of", "trimmed", "clauses_used"),
     "papertexts": ("paper_text", "read_paper"),
+    "replies": ("why", "reply", "followed"),
+    "tables": ("table_of", "table_reply"),
+    "search": ("find", "decided", "core"),
+    "lessening": ("step_error", "done_step", "steps_error", "done_steps", "lessened"),
+    "carrying": ("carried", "answers_carried"),
+    "squeezing": ("squeezed", "unsqueezed", "answers_unsqueezed"),
+    "answers": ("answers_error", "answers_reply"),
+    "webs": ("straight", "led"),
+    "twos": ("two_fault", "two_solved"),
+    "horns": ("yes_letters", "once_no", "horn_solved"),
 }
 
 CALLED = set(
