@@ -10,11 +10,15 @@ def head_of(clause):
     return max([0] + list(clause))
 
 
+def is_horn(sentence):
+    """Tell whether each clause of the sentence has at most one positive literal."""
+    return all([len([literal for literal in clause if literal > 0]) <= 1 for clause in sentence[1]])
+
+
 def check_horn(sentence):
-    """Raise Unfit if some clause has more than one positive literal."""
-    for clause in sentence[1]:
-        if len([literal for literal in clause if literal > 0]) > 1:
-            raise Unfit()
+    """Raise Unfit if the sentence is not Horn."""
+    if not is_horn(sentence):
+        raise Unfit()
 
 
 def needed_letters(sentence, clause):

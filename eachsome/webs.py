@@ -8,10 +8,15 @@ def in_order(letters, literals):
     return tuple([literal for k in range(1, letters + 1) for literal in (k, -k) if literal in literals])
 
 
+def has_short_clauses(sentence):
+    """Tell whether no clause of the sentence has more than two literals."""
+    return all([len(clause) <= 2 for clause in sentence[1]])
+
+
 def web_of(sentence):
     """Return a dict from each literal to the tuple, in order, of those that it leads straight to."""
     owners, clauses = sentence
-    if any([len(clause) > 2 for clause in clauses]):
+    if not has_short_clauses(sentence):
         raise Unfit()
     leads = {sign * k: {} for k in range(1, len(owners) + 1) for sign in (1, -1)}
     for clause in clauses:

@@ -5,7 +5,8 @@ import unittest
 
 from eachsome import errors
 
-PARTS = (("a", 22), ("b", 10), ("c", 25), ("d", 15), ("e", 10), ("f", 21), ("g", 15), ("h", 10))
+PARTS = (("a", 22), ("b", 10), ("c", 25), ("d", 15), ("e", 10), ("f", 21), ("g", 15), ("h", 17), ("i", 22),
+         ("j", 10))
 FOLDER = os.path.dirname(os.path.abspath(__file__))
 
 

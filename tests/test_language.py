@@ -29,6 +29,11 @@ INTERFACE = {
     "webs": ("straight", "led"),
     "twos": ("two_fault", "two_solved"),
     "horns": ("yes_letters", "once_no", "horn_solved"),
+    "engines": ("engine_of", "solved", "move_of"),
+    "formulas": ("formula_error", "free_names", "called"),
+    "formulatexts": ("formula_text", "read_formula"),
+    "truths": ("holds", "parting_world"),
+    "prenexes": ("prenex", "lowered"),
 }
 
 CALLED = set(
@@ -236,7 +241,7 @@ class NamesTest(unittest.TestCase):
         for name, tree in TREES.items():
             classes = [node.name for node in tree.body if isinstance(node, ast.ClassDef)]
             imported = [alias.name for node in tree.body if isinstance(node, ast.ImportFrom) for alias in node.names]
-            barred = set(classes) | set(imported) | set(dir(builtins))
+            barred = (set(classes) | set(imported) | set(dir(builtins))) - {"_"}
             self.assertEqual(defined_in(tree) & set(dir(builtins)), set(), name)
             for node in ast.walk(tree):
                 if isinstance(node, ast.FunctionDef):

@@ -1,0 +1,121 @@
+"""Formulas brought to plain forms: "each" and "some" ahead of all else, "not" ahead of letters alone."""
+
+from eachsome.bounds import MAX_LETTERS, MAX_NEST, MAX_NODES
+from eachsome.errors import TooMany, Unfit
+from eachsome.formulas import QUANTIFIERS, free_names, is_plain, parts_of, with_parts
+
+CONTRARY = {"each": "some", "some": "each", "and": "or", "or": "and"}
+
+
+def check_size(nodes, deep):
+    """Raise TooMany if a formula of so many nodes, the deepest one so deep, is too great."""
+    if nodes > MAX_NODES:
+        raise TooMany(MAX_NODES)
+    if deep > MAX_NEST:
+        raise TooMany(MAX_NEST)
+
+
+def split_same(formula):
+    """Return what is gone through in the place of a "same" with an "each" or "some" in it."""
+    _, one, other = formula
+    return ("or", (("and", (one, other)), ("and", (("not", one), ("not", other)))))
+
+
+def prenex_size(formula):
+    """Return how many quantifiers and how many nodes prenex makes of the formula, and how deep the deepest one is."""
+    found = [prenex_size(part) for part in parts_of(formula)]
+    many = sum([size[0] for size in found])
+    nodes = sum([size[1] for size in found])
+    deep = max([0] + [size[2] for size in found])
+    if formula[0] in QUANTIFIERS:
+        return (many + 1, nodes, deep)
+    if formula[0] == "same" and many:
+        # As split_same makes it: both parts twice, with five nodes around, of which three lead to the deepest part.
+        return (2 * many, 2 * nodes + 5, deep + 3)
+    return (many, nodes + 1, deep + 1)
+
+
+def check_prenex(formula):
+    """Raise what prenex raises of the formula."""
+    if free_names(formula):
+        raise Unfit()
+    many, nodes, deep = prenex_size(formula)
+    if many > MAX_LETTERS:
+        raise TooMany(MAX_LETTERS)
+    check_size(nodes, deep)
+
+
+def matrix_of(formula, side, names, quantifiers):
+    """Return what the formula becomes on this side, names telling what bound names are called.
+
+    Its quantifiers are put behind those that there are.
+    """
+    word = formula[0]
+    if word == "letter":
+        return ("letter", names[formula[1]])
+    if word in QUANTIFIERS:
+        fresh = f"v{len(quantifiers) + 1}"
+        quantifiers.append((word if side == "yes" else CONTRARY[word], fresh))
+        return matrix_of(formula[2], side, {**names, formula[1]: fresh}, quantifiers)
+    if word == "same" and not is_plain(formula):
+        return matrix_of(split_same(formula), side, names, quantifiers)
+    if word == "not":
+        side = "no" if side == "yes" else "yes"
+    return with_parts(formula, [matrix_of(part, side, names, quantifiers) for part in parts_of(formula)])
+
+
+def prenex(formula):
+    """Return the quantifiers of the formula, fresh names for all of them, and the matrix behind them."""
+    check_prenex(formula)
+    quantifiers = []
+    matrix = matrix_of(formula, "yes", {}, quantifiers)
+    return (tuple(quantifiers), matrix)
+
+
+def joined_size(sizes, nodes, deep):
+    """Return nodes and depth of what has parts of these sizes, with so many nodes around, so many above each part."""
+    return (nodes + sum([size[0] for size in sizes]), deep + max([0] + [size[1] for size in sizes]))
+
+
+def lowered_sizes(formula):
+    """Return a dict from each side to how many nodes lowered makes there, and how deep the deepest one is."""
+    if formula[0] == "letter":
+        return {"yes": (1, 1), "no": (2, 2)}
+    found = [lowered_sizes(part) for part in parts_of(formula)]
+    if formula[0] == "not":
+        return {"yes": found[0]["no"], "no": found[0]["yes"]}
+    if formula[0] == "same":
+        both = joined_size([sizes[side] for sizes in found for side in ("yes", "no")], 3, 2)
+        return {"yes": both, "no": both}
+    return {side: joined_size([sizes[side] for sizes in found], 1, 1) for side in ("yes", "no")}
+
+
+def lowered_same(formula, side):
+    """Return what a "same" becomes on this side."""
+    _, one, other = formula
+    first, second = lowered_on(one, "no"), lowered_on(one, "yes")
+    if side == "no":
+        first, second = second, first
+    return ("and", (("or", (first, lowered_on(other, "yes"))), ("or", (second, lowered_on(other, "no")))))
+
+
+def lowered_on(formula, side):
+    """Return what the formula becomes on this side."""
+    word = formula[0]
+    if word == "letter":
+        return formula if side == "yes" else ("not", formula)
+    if word == "not":
+        return lowered_on(formula[1], "no" if side == "yes" else "yes")
+    if word == "same":
+        return lowered_same(formula, side)
+    parts = tuple([lowered_on(part, side) for part in formula[1]])
+    return (word if side == "yes" else CONTRARY[word], parts)
+
+
+def lowered(formula):
+    """Return a plain formula that says the same without "same", and with "not" ahead of letters alone."""
+    if not is_plain(formula):
+        raise Unfit()
+    nodes, deep = lowered_sizes(formula)["yes"]
+    check_size(nodes, deep)
+    return lowered_on(formula, "yes")
