@@ -1,7 +1,7 @@
 """Formulas: trees of "letter", "not", "and", "or", "same", "each" and "some"."""
 
 from eachsome.bounds import MAX_NEST, MAX_NODES
-from eachsome.errors import Taken
+from eachsome.errors import Taken, TooMany
 
 FIRST_SIGNS = "abcdefghijklmnopqrstuvwxyz"
 SIGNS = "abcdefghijklmnopqrstuvwxyz0123456789"
@@ -69,15 +69,31 @@ def first_fault(value, way):
     return None
 
 
-def many_nodes(formula):
-    """Return how many nodes the formula has."""
-    return 1 + sum([many_nodes(part) for part in parts_of(formula)])
+def joined_size(sizes, nodes, deep):
+    """Return the size of what has parts of these sizes, with so many nodes around them, so many above each.
+
+    A size is a pair: how many nodes there are, and how deep the deepest one is.
+    """
+    return (nodes + sum([size[0] for size in sizes]), deep + max([0] + [size[1] for size in sizes]))
+
+
+def size_of(formula):
+    """Return the size of the formula."""
+    return joined_size([size_of(part) for part in parts_of(formula)], 1, 1)
+
+
+def check_size(size):
+    """Raise TooMany if a formula of this size is too great."""
+    if size[0] > MAX_NODES:
+        raise TooMany(MAX_NODES)
+    if size[1] > MAX_NEST:
+        raise TooMany(MAX_NEST)
 
 
 def formula_error(value):
     """Return None for a formula, otherwise what is wrong with value."""
     fault = first_fault(value, ())
-    if fault is None and many_nodes(value) > MAX_NODES:
+    if fault is None and size_of(value)[0] > MAX_NODES:
         return ((), "many")
     return fault
 

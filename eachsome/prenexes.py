@@ -1,18 +1,10 @@
 """Formulas brought to plain forms: "each" and "some" ahead of all else, "not" ahead of letters alone."""
 
-from eachsome.bounds import MAX_LETTERS, MAX_NEST, MAX_NODES
+from eachsome.bounds import MAX_LETTERS
 from eachsome.errors import TooMany, Unfit
-from eachsome.formulas import QUANTIFIERS, free_names, is_plain, parts_of, with_parts
+from eachsome.formulas import QUANTIFIERS, check_size, free_names, is_plain, joined_size, parts_of, with_parts
 
 CONTRARY = {"each": "some", "some": "each", "and": "or", "or": "and"}
-
-
-def check_size(nodes, deep):
-    """Raise TooMany if a formula of so many nodes, the deepest one so deep, is too great."""
-    if nodes > MAX_NODES:
-        raise TooMany(MAX_NODES)
-    if deep > MAX_NEST:
-        raise TooMany(MAX_NEST)
 
 
 def split_same(formula):
@@ -21,28 +13,32 @@ def split_same(formula):
     return ("or", (("and", (one, other)), ("and", (("not", one), ("not", other)))))
 
 
-def prenex_size(formula):
-    """Return how many quantifiers and how many nodes prenex makes of the formula, and how deep the deepest one is."""
-    found = [prenex_size(part) for part in parts_of(formula)]
-    many = sum([size[0] for size in found])
-    nodes = sum([size[1] for size in found])
-    deep = max([0] + [size[2] for size in found])
+def many_quantifiers(formula):
+    """Return how many quantifiers prenex makes of the formula."""
+    many = sum([many_quantifiers(part) for part in parts_of(formula)])
     if formula[0] in QUANTIFIERS:
-        return (many + 1, nodes, deep)
-    if formula[0] == "same" and many:
+        return many + 1
+    return 2 * many if formula[0] == "same" else many
+
+
+def matrix_size(formula):
+    """Return the size of the matrix that prenex makes of the formula."""
+    sizes = [matrix_size(part) for part in parts_of(formula)]
+    if formula[0] in QUANTIFIERS:
+        return sizes[0]
+    if formula[0] == "same" and not is_plain(formula):
         # As split_same makes it: both parts twice, with five nodes around, of which three lead to the deepest part.
-        return (2 * many, 2 * nodes + 5, deep + 3)
-    return (many, nodes + 1, deep + 1)
+        return joined_size(sizes + sizes, 5, 3)
+    return joined_size(sizes, 1, 1)
 
 
 def check_prenex(formula):
     """Raise what prenex raises of the formula."""
     if free_names(formula):
         raise Unfit()
-    many, nodes, deep = prenex_size(formula)
-    if many > MAX_LETTERS:
+    if many_quantifiers(formula) > MAX_LETTERS:
         raise TooMany(MAX_LETTERS)
-    check_size(nodes, deep)
+    check_size(matrix_size(formula))
 
 
 def matrix_of(formula, side, names, quantifiers):
@@ -72,13 +68,8 @@ def prenex(formula):
     return (tuple(quantifiers), matrix)
 
 
-def joined_size(sizes, nodes, deep):
-    """Return nodes and depth of what has parts of these sizes, with so many nodes around, so many above each part."""
-    return (nodes + sum([size[0] for size in sizes]), deep + max([0] + [size[1] for size in sizes]))
-
-
 def lowered_sizes(formula):
-    """Return a dict from each side to how many nodes lowered makes there, and how deep the deepest one is."""
+    """Return a dict from each side to the size of what the formula becomes there."""
     if formula[0] == "letter":
         return {"yes": (1, 1), "no": (2, 2)}
     found = [lowered_sizes(part) for part in parts_of(formula)]
@@ -116,6 +107,5 @@ def lowered(formula):
     """Return a plain formula that says the same without "same", and with "not" ahead of letters alone."""
     if not is_plain(formula):
         raise Unfit()
-    nodes, deep = lowered_sizes(formula)["yes"]
-    check_size(nodes, deep)
+    check_size(lowered_sizes(formula)["yes"])
     return lowered_on(formula, "yes")

@@ -65,16 +65,21 @@ def reply(sentence, paper, play):
     return answer_to(paper[0], drops_of(sentence, paper), play)
 
 
-def followed(sentence, paper, others):
-    """Return the whole play in which the other party sets its letters by others, and the holder by the paper."""
+def followed_to(sentence, paper, others, many):
+    """Return the play of the first letters, so many, in which the other party sets its own by others."""
     side = paper[0]
     drops = drops_of(sentence, paper)
     play = ()
-    many = 0
-    for place, owner in enumerate(sentence[0]):
+    used = 0
+    for place, owner in enumerate(sentence[0][:many]):
         if owner == HOLDERS[side]:
             play = play + (answer_to(side, drops, play),)
         else:
-            play = play + (place + 1 if others[many] else -place - 1,)
-            many += 1
+            play = play + (place + 1 if others[used] else -place - 1,)
+            used += 1
     return play
+
+
+def followed(sentence, paper, others):
+    """Return the whole play in which the other party sets its letters by others, and the holder by the paper."""
+    return followed_to(sentence, paper, others, len(sentence[0]))

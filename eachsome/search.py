@@ -26,7 +26,7 @@ class Field:
             for many in range(last_of_some(self.owners, clause), len(self.owners) + 1):
                 self.ended[many] = self.ended[many] | (1 << place)
 
-    def true_behind(self, true, literal):
+    def behind(self, true, literal):
         """Return the clauses that are true behind the literal, true being those ahead of it."""
         return true | self.having.get(literal, 0)
 
@@ -37,40 +37,38 @@ class Field:
         if self.ended[many] & ~true:
             return False
         letter = many + 1
-        with_yes = self.some_wins(letter, self.true_behind(true, letter))
+        with_yes = self.some_wins(letter, self.behind(true, letter))
         # One literal settles it if it is good for the owner.
         if with_yes == (self.owners[many] == "s"):
             return with_yes
-        return self.some_wins(letter, self.true_behind(true, -letter))
+        return self.some_wins(letter, self.behind(true, -letter))
+
+    def lot_of(self, play):
+        """Return literals of the play, one at least for each clause; all clauses are true in it."""
+        lot = []
+        true = 0
+        for literal in play:
+            behind = self.behind(true, literal)
+            if behind != true:
+                lot.append(literal)
+            true = behind
+        return tuple(lot)
+
+    def settled(self, drafts, play, true):
+        """Return side and number of a row that settles the play at once, None if there is none."""
+        lost = self.ended[len(play)] & ~true
+        if lost:
+            place = first_place(lost)
+            return ("no", drafts["no"].put(("clause", place), self.clauses[place]))
+        if true == self.whole:
+            lot = self.lot_of(play)
+            return ("yes", drafts["yes"].put(("lot", lot), lot))
+        return None
 
 
 def first_place(clauses):
     """Return the least place of the clauses that a number tells, not 0."""
     return (clauses & -clauses).bit_length() - 1
-
-
-def lot_of(field, play):
-    """Return literals of the play, one at least for each clause; all clauses are true in it."""
-    lot = []
-    true = 0
-    for literal in play:
-        behind = field.true_behind(true, literal)
-        if behind != true:
-            lot.append(literal)
-        true = behind
-    return tuple(lot)
-
-
-def settled_row(field, drafts, play, true):
-    """Return side and number of a row that settles the play at once, None if there is none."""
-    lost = field.ended[len(play)] & ~true
-    if lost:
-        place = first_place(lost)
-        return ("no", drafts["no"].put(("clause", place), field.clauses[place]))
-    if true == field.whole:
-        lot = lot_of(field, play)
-        return ("yes", drafts["yes"].put(("lot", lot), lot))
-    return None
 
 
 def has_letter(drafts, found, letter):
@@ -80,17 +78,20 @@ def has_letter(drafts, found, letter):
     return row != () and abs(row[-1]) == letter
 
 
-def row_below(field, drafts, play, true):
-    """Return side and number of a row of set letters that settles the play: untrue for "no", true for "yes"."""
-    found = settled_row(field, drafts, play, true)
+def row_below(field, drafts, play, state):
+    """Return side and number of a row of set letters that settles the play: untrue for "no", true for "yes".
+
+    The field tells what settles plays at once, and what comes of its state by a literal.
+    """
+    found = field.settled(drafts, play, state)
     if found is not None:
         side, number = found
         return (side, drafts[side].shortened(number))
     letter = len(play) + 1
-    one = row_below(field, drafts, play + (letter,), field.true_behind(true, letter))
+    one = row_below(field, drafts, play + (letter,), field.behind(state, letter))
     if not has_letter(drafts, one, letter):
         return one
-    other = row_below(field, drafts, play + (-letter,), field.true_behind(true, -letter))
+    other = row_below(field, drafts, play + (-letter,), field.behind(state, -letter))
     if not has_letter(drafts, other, letter):
         return other
     # Behind its drop a row ends with a letter of the other party's: so both rows are of one side.
@@ -99,12 +100,18 @@ def row_below(field, drafts, play, true):
     return (side, drafts[side].shortened(number))
 
 
+def paper_from(field):
+    """Return a paper of the sentence of the field, of the winner's side."""
+    drafts = {side: Draft(field.owners, side) for side in HOLDERS}
+    # In no state yet, as no letter is set.
+    side, number = row_below(field, drafts, (), 0)
+    return drafts[side].paper(number)
+
+
 def find(sentence):
     """Return a paper of the sentence, of the winner's side."""
     check_size(sentence)
-    drafts = {side: Draft(sentence[0], side) for side in HOLDERS}
-    side, number = row_below(Field(sentence), drafts, (), 0)
-    return drafts[side].paper(number)
+    return paper_from(Field(sentence))
 
 
 def decided(sentence):

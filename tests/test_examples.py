@@ -6,7 +6,7 @@ import unittest
 from eachsome import errors
 
 PARTS = (("a", 22), ("b", 10), ("c", 25), ("d", 15), ("e", 10), ("f", 21), ("g", 15), ("h", 17), ("i", 22),
-         ("j", 10))
+         ("j", 26), ("k", 20), ("l", 18))
 FOLDER = os.path.dirname(os.path.abspath(__file__))
 
 

@@ -2,6 +2,7 @@
 
 import ast
 import builtins
+import copy
 import os
 import re
 import unittest
@@ -34,11 +35,16 @@ INTERFACE = {
     "formulatexts": ("formula_text", "read_formula"),
     "truths": ("holds", "parting_world"),
     "prenexes": ("prenex", "lowered"),
+    "compiling": ("compiled", "helper_play", "formula_paper", "formula_solved", "formula_reply", "formula_followed"),
+    "turngames": ("game_error", "each_choices", "some_choices", "moved", "can_force"),
+    "unrolling": ("unrolled", "game_paper", "game_move"),
+    "desks": ("Desk", "desk_behind"),
+    "shells": ("Shell",),
 }
 
 CALLED = set(
     "len range enumerate zip min max sum abs sorted reversed int str bool list tuple dict set isinstance ord repr "
-    "any all divmod ValueError super next iter".split()
+    "any all divmod ValueError super next iter property".split()
 )
 KEYWORDS = {"sorted": {"key", "reverse"}, "min": {"key", "default"}, "max": {"key", "default"},
             "sum": {"start"}, "enumerate": {"start"}, "zip": {"strict"}}
@@ -117,6 +123,22 @@ def bound_inside(function):
     return found
 
 
+def without_functions(value, names):
+    """A copy of a value at module level, with the names themselves where a dict has functions of these names."""
+    value = copy.deepcopy(value)
+    if isinstance(value, ast.Dict):
+        for place, told in enumerate(value.values):
+            if isinstance(told, ast.Name) and told.id in names:
+                value.values[place] = ast.Constant(told.id)
+    return value
+
+
+def properties():
+    """The names of all properties, and the nodes that tell them."""
+    return {node.name: node for tree in TREES.values() for node in ast.walk(tree)
+            if isinstance(node, ast.FunctionDef) and node.decorator_list}
+
+
 class FilesTest(unittest.TestCase):
     def test_files(self):
         self.assertIn("__init__", TEXTS)
@@ -136,7 +158,8 @@ class FilesTest(unittest.TestCase):
             for node in ast.walk(tree):
                 if isinstance(node, ast.FunctionDef):
                     self.assertLessEqual(node.end_lineno - node.lineno + 1, 40, (name, node.name))
-                    self.assertEqual(node.decorator_list, [], (name, node.name))
+                    told = [ast.unparse(decorator) for decorator in node.decorator_list]
+                    self.assertIn(told, ([], ["property"]), (name, node.name))
 
     def test_barred_words(self):
         for name, tree in TREES.items():
@@ -189,7 +212,8 @@ class StatementsTest(unittest.TestCase):
                 self.assertTrue(docstring or isinstance(node, kinds), (name, node.lineno))
                 if isinstance(node, ast.Assign):
                     self.assertEqual(len(node.targets), 1)
-                    ast.literal_eval(node.value)
+                    ahead = {other.name for other in tree.body[:place] if isinstance(other, ast.FunctionDef)}
+                    ast.literal_eval(without_functions(node.value, ahead))
             self.assertEqual(len(bound_at_top(tree)), len(set(bound_at_top(tree))), name)
 
     def test_kinds_of_statements(self):
@@ -234,7 +258,7 @@ class NamesTest(unittest.TestCase):
             for node in ast.walk(tree):
                 told = [getattr(node, field, None) for field in ("id", "arg", "attr", "name")]
                 for word in [word for word in told if isinstance(word, str)]:
-                    self.assertRegex(word, r"\A(_|_?[A-Za-z][A-Za-z0-9_]*|__init__|__eq__)\Z", name)
+                    self.assertRegex(word, r"\A(_|_?[A-Za-z][A-Za-z0-9_]*|__init__|__eq__|__class__|__name__)\Z", name)
                     self.assertNotIn(word, BARRED, name)
 
     def test_no_name_hides_another(self):
@@ -252,6 +276,36 @@ class NamesTest(unittest.TestCase):
             for node in ast.walk(tree):
                 if isinstance(node, ast.FunctionDef) and node.name.startswith("__"):
                     self.assertIn(node.name, SPECIAL, name)
+
+    def test_properties(self):
+        others = []
+        for tree in TREES.values():
+            for node in ast.walk(tree):
+                if isinstance(node, ast.FunctionDef) and not node.decorator_list:
+                    others.append(node.name)
+                elif isinstance(node, ast.Attribute) and not isinstance(node.ctx, ast.Load):
+                    others.append(node.attr)
+        self.assertEqual(set(properties()) & (set(others) | METHODS), set())
+        for node in properties().values():
+            self.assertIsInstance(node.body[-1], ast.Return)
+            self.assertLessEqual(len(node.body), 2)
+
+    def test_names_of_classes(self):
+        for name, tree in TREES.items():
+            for node in ast.walk(tree):
+                if isinstance(node, ast.Attribute) and node.attr == "__class__":
+                    self.assertIsInstance(node.value, ast.Name, name)
+                if isinstance(node, ast.Attribute) and node.attr == "__name__":
+                    self.assertEqual(node.value.attr, "__class__", name)
+                if isinstance(node, ast.Name):
+                    self.assertNotIn(node.id, ("__class__", "__name__"), name)
+
+    def test_a_class_that_compares(self):
+        for name, tree in TREES.items():
+            for node in ast.walk(tree):
+                self.assertNotIsInstance(node, ast.GeneratorExp, name)
+                if isinstance(node, ast.Call) and isinstance(node.func, ast.Attribute):
+                    self.assertNotEqual(node.func.attr, "sort", name)
 
     def test_builtins(self):
         for name, tree in TREES.items():
