@@ -103,7 +103,7 @@ def row_below(field, drafts, play, state):
 def paper_from(field):
     """Return a paper of the sentence of the field, of the winner's side."""
     drafts = {side: Draft(field.owners, side) for side in HOLDERS}
-    # In no state yet, as no letter is set.
+    # Where no letter is set each field is in the state 0.
     side, number = row_below(field, drafts, (), 0)
     return drafts[side].paper(number)
 

@@ -115,6 +115,8 @@ class ReadFormulaTest(unittest.TestCase):
         self.assertIsNone(self.check("(" * 41 + "a" + ")" * 41))
         self.assertEqual(self.check("a&" + "(" * 40 + "a" + ")" * 40 + "&(a)"), ("and", (A, A, A)))
         self.assertIsNone(self.check("a|" + "(" * 41 + "a" + ")" * 41))
+        self.assertIsNone(self.check("((a))&(a)|" + "(" * 41 + "a" + ")" * 41))
+        self.assertEqual(self.check("((a))|" + "(" * 40 + "a" + ")" * 40), ("or", (A, A)))
         self.assertEqual(self.check("((a))|" * 60 + "((a))"), ("or", (A,) * 61))
         for many in (39, 40, 41):
             text = "!(" * many + "a" + ")" * many

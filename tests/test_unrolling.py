@@ -295,6 +295,16 @@ class GameMoveTest(unittest.TestCase):
             check_call(self, game_move, raised(Unfit()), game=game, rounds=0, paper=paper, history=())
         check_call(self, game_move, raised(Unfit()), game=BOTH, rounds=1, paper=game_paper(BOTH, 1), history=((False,), (True,)))
 
+    def test_unfit_without_bits_to_choose(self):
+        game = ((False,), 0, 1, YES, YES, (NO,), LAMP)
+        for rounds in (0, 1, 2):
+            paper = game_paper(game, rounds)
+            check_call(self, game_move, raised(Unfit()), game=game, rounds=rounds, paper=paper, history=((), (True,)) * rounds)
+        check_call(self, game_move, raised(Unfit()), game=game, rounds=2, paper=game_paper(game, 2), history=((),))
+        game = ((False,), 1, 0, YES, YES, (YES,), LAMP)
+        for history in ((), ((True,), ()), ((True,), (), (False,), ())):
+            check_call(self, game_move, raised(Unfit()), game=game, rounds=2, paper=game_paper(game, 2), history=history)
+
     def test_two_games_by_turns(self):
         games = [(FOLLOW, 1), (BOTH, 2), (changed(FOLLOW, 5, (("same", HERE, ("not", THERE)),)), 1)]
         papers = [game_paper(game, rounds) for game, rounds in games]
